@@ -1,0 +1,1 @@
+"""Lastoflot: who is let in where not all can be in together."""

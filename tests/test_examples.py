@@ -1,0 +1,50 @@
+"""The document's examples e01 to e08."""
+
+import unittest
+
+from lastoflot.alike import alike, parting, steps
+from lastoflot.always import always_steady, spare
+from lastoflot.books import Book
+from lastoflot.fellows import bound_pairs, many_fellows
+from lastoflot.offices import Office, from_below, lasts, let_in, reasons
+from lastoflot.rules import lots_by
+from lastoflot.steady import clash, is_recall, steady, thirds
+from lastoflot.tables import list_for, many_tables
+from lastoflot.waiting import hopeful, kept, places
+
+b = Book(3, ((0, 1), (1, 2)))
+t = Book(3, ((0, 1), (0, 2), (1, 2)))
+o = Office(b, (0, 1, 2))
+p = Office(Book(3, ((0, 1), (0, 2))), (0, 1, 2))
+
+
+class ExampleTest(unittest.TestCase):
+    def test_e01(self):
+        rules = (("most", 2, (0, 1, 2)), ("without", 3, (0, 1)))
+        self.assertEqual(lots_by(4, rules).lots, ((0, 1, 2), (0, 3), (1, 3)))
+
+    def test_e02(self):
+        found = (lasts(o), let_in(o, (1, 2)), let_in(o, (0, 1, 2)), reasons(o, (0, 1, 2)))
+        self.assertEqual(found, ((1, 2), (1,), (0, 2), {1: (0, 1)}))
+        self.assertEqual(from_below(o, (0, 1, 2)), (0,))
+
+    def test_e03(self):
+        self.assertEqual((alike(o, p), parting(o, p)), (False, (0, 2)))
+        self.assertEqual(steps(p, Office(p.book, (0, 2, 1))), (1,))
+
+    def test_e04(self):
+        self.assertEqual((many_fellows(o), many_fellows(p), bound_pairs(p)), (1, 2, [(0, 1), (0, 2)]))
+
+    def test_e05(self):
+        self.assertEqual((many_tables(b), many_tables(t), list_for(t, (0, 2, 1))), (4, 6, None))
+
+    def test_e06(self):
+        self.assertEqual((steady(o), clash(o), steady(p), thirds(p)), (False, (0, 1), True, {}))
+        self.assertIs(is_recall(o, ((1, 2), 0, 2)), True)
+
+    def test_e07(self):
+        self.assertEqual((always_steady(b), spare(b), always_steady(t)), (False, (0, 1, 1), True))
+
+    def test_e08(self):
+        wanted = ((2,), 1, [((2,), ()), ((1,), (2,)), ((0, 2), ())])
+        self.assertEqual((hopeful(o, (1, 2)), places(o), kept(o, (2, 1, 0))), wanted)

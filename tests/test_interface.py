@@ -1,0 +1,64 @@
+"""The interface: names, files, arguments."""
+
+import importlib
+import inspect
+import unittest
+
+INTERFACE = {
+    "books": "is_clear(book, thing) book_of(people, heaps) bases(book, crowd)",
+    "rules": "keeps(people, rules, crowd) lots_by(people, rules)",
+    "offices": "lasts(office) let_in(office, crowd) out(office, crowd) from_below(office, crowd) "
+               "reasons(office, crowd) outcomes(office) is_reason(office, crowd, person, thing)",
+    "alike": "alike(one, other) is_steps(one, other, thing) parting(one, other) exchanged(office, k) "
+             "steps(one, other)",
+    "fellows": "many_fellows(office) fellow_number(office, order) fellow_at(office, number) bound_pairs(office) "
+               "may_stand(office, person)",
+    "tables": "list_for(book, table) ring_of(book, table) is_ring(book, table, thing) lists_with(book, table) "
+              "many_tables(book) all_tables(book) least_lists(book)",
+    "steady": "steady(office) is_thirds(office, thing) is_recall(office, thing) is_last_in(office, thing) "
+              "is_below_unlike(office, thing) clash_pairs(office) third_of(office, pair) thirds(office) "
+              "clash(office) last_in(office) recall(office) below_unlike(office)",
+    "always": "always_steady(book) is_unsteady_list(book, thing) spare(book) unsteady_list(book)",
+    "waiting": "hopeful(office, crowd) fullest(office) bringers(office, crowd, person) places(office) "
+               "crowded(office, many) is_crowded(office, many, thing) kept(office, row)",
+}
+CLASSES = {
+    "books": "Book(people, lots)",
+    "offices": "Office(book, order)",
+    "errors": "BadBook(part, at) BadOffice(part) BadKinds(part, at) BadText(line) TooMany(most) NoName(name)",
+}
+
+
+def parts(text):
+    """The pairs of a name and its arguments."""
+    found = []
+    for piece in text.split(")"):
+        if piece:
+            name, arguments = piece.strip().split("(")
+            found.append((name, arguments.split(", ")))
+    return found
+
+
+class InterfaceTest(unittest.TestCase):
+    def test_functions(self):
+        for file, text in INTERFACE.items():
+            module = importlib.import_module("lastoflot." + file)
+            for name, arguments in parts(text):
+                function = getattr(module, name)
+                self.assertTrue(inspect.isfunction(function), name)
+                self.assertEqual(function.__module__, "lastoflot." + file)
+                self.assertEqual(list(inspect.signature(function).parameters), arguments, name)
+
+    def test_classes(self):
+        for file, text in CLASSES.items():
+            module = importlib.import_module("lastoflot." + file)
+            for name, arguments in parts(text):
+                kind = getattr(module, name)
+                self.assertTrue(inspect.isclass(kind), name)
+                self.assertEqual(kind.__module__, "lastoflot." + file)
+                self.assertEqual(list(inspect.signature(kind).parameters), arguments, name)
+
+    def test_equality_is_their_own(self):
+        for file, name in (("books", "Book"), ("offices", "Office")):
+            kind = getattr(importlib.import_module("lastoflot." + file), name)
+            self.assertIn("__eq__", vars(kind))
