@@ -217,6 +217,9 @@ class WitnessTest(Checks, unittest.TestCase):
                  ((1, 2), 3, 2), ((1, 2), 0, 3), ((1, 2), -3, 2), ((1, 2), 0, -1), (None, 0, 2), ((1, 2), None, None),
                  ((1, 2, 3), 0, 2), ((1, 2), 0, 0), ((1, 2), (0,), 2), ((1, 2), 0, (2,))]
         self.refuses(is_recall, ROW, things=wrong + strange())
+        office = Office(Book(3, ((0, 2), (1, 2))), (0, 2, 1))
+        self.accepts(is_recall, office, ((1, 2), 0, 1))
+        self.refuses(is_recall, office, things=[((1, 2), 0, True), ((1, 2), False, 1), ((True, 2), 0, 1)])
 
     def test_wrong_lasts_in(self):
         self.accepts(is_last_in, ROW, ((0, 1, 2), 1))
