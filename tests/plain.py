@@ -219,11 +219,6 @@ def is_plain_list(people, thing):
     return sorted(thing) == list(range(people))
 
 
-def field_names(error):
-    """The fields of an error."""
-    return vars(error)
-
-
 class Checks:
     """What test cases do besides what unittest gives them."""
 

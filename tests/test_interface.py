@@ -40,23 +40,20 @@ def parts(text):
 
 
 class InterfaceTest(unittest.TestCase):
-    def test_functions(self):
-        for file, text in INTERFACE.items():
+    def stand_there(self, listed, is_kind):
+        for file, text in listed.items():
             module = importlib.import_module("lastoflot." + file)
             for name, arguments in parts(text):
-                function = getattr(module, name)
-                self.assertTrue(inspect.isfunction(function), name)
-                self.assertEqual(function.__module__, "lastoflot." + file)
-                self.assertEqual(list(inspect.signature(function).parameters), arguments, name)
+                thing = getattr(module, name)
+                self.assertTrue(is_kind(thing), name)
+                self.assertEqual(thing.__module__, "lastoflot." + file)
+                self.assertEqual(list(inspect.signature(thing).parameters), arguments, name)
+
+    def test_functions(self):
+        self.stand_there(INTERFACE, inspect.isfunction)
 
     def test_classes(self):
-        for file, text in CLASSES.items():
-            module = importlib.import_module("lastoflot." + file)
-            for name, arguments in parts(text):
-                kind = getattr(module, name)
-                self.assertTrue(inspect.isclass(kind), name)
-                self.assertEqual(kind.__module__, "lastoflot." + file)
-                self.assertEqual(list(inspect.signature(kind).parameters), arguments, name)
+        self.stand_there(CLASSES, inspect.isclass)
 
     def test_equality_is_their_own(self):
         for file, name in (("books", "Book"), ("offices", "Office")):

@@ -172,14 +172,16 @@ def wrong_thirds(office, right):
 
 
 class WitnessTest(Checks, unittest.TestCase):
+    def right_one(self, right, found, judge, office):
+        self.assertEqual(found is None, not right)
+        if right:
+            self.assertIn(found, right)
+            self.accepts(judge, office, found)
+
     def test_recall(self):
         for office in offices():
             right = recalls(office)
-            found = recall(office)
-            self.assertEqual(found is None, not right)
-            if right:
-                self.assertIn(found, right)
-                self.accepts(is_recall, office, found)
+            self.right_one(right, recall(office), is_recall, office)
             people = range(office.book.people)
             for crowd in plain.crowds(office.book.people):
                 for comer in people:
@@ -190,11 +192,7 @@ class WitnessTest(Checks, unittest.TestCase):
     def test_last_in(self):
         for office in offices():
             right = lasts_in(office)
-            found = last_in(office)
-            self.assertEqual(found is None, not right)
-            if right:
-                self.assertIn(found, right)
-                self.accepts(is_last_in, office, found)
+            self.right_one(right, last_in(office), is_last_in, office)
             for crowd in plain.crowds(office.book.people):
                 for k in range(len(office.book.lots)):
                     self.same_flag((crowd, k) in right, is_last_in(office, (crowd, k)), crowd, k)
@@ -202,11 +200,7 @@ class WitnessTest(Checks, unittest.TestCase):
     def test_below_unlike(self):
         for office in offices():
             right = below(office)
-            found = below_unlike(office)
-            self.assertEqual(found is None, not right)
-            if right:
-                self.assertIn(found, right)
-                self.accepts(is_below_unlike, office, found)
+            self.right_one(right, below_unlike(office), is_below_unlike, office)
             for crowd in plain.crowds(office.book.people):
                 self.same_flag(crowd in right, is_below_unlike(office, crowd), crowd)
 
