@@ -53,6 +53,11 @@ def lots_bits(book):
     return [bits_of(lot) for lot in book.lots]
 
 
+def is_lot_of(book, thing):
+    """Whether a thing is one of the lots of a book."""
+    return is_lot(book.people, thing) and thing in book.lots
+
+
 def is_clear(book, thing):
     """Whether a thing is a crowd within which no lot is."""
     return is_crowd(book.people, thing) and not holds_any(bits_of(thing), lots_bits(book))
@@ -87,10 +92,15 @@ def least_book(people, heaps):
     return Book(people, tuple(sorted([crowd_of(bits) for bits in least])))
 
 
-def bases(book, crowd):
-    """The ascending list of the clear crowds within a crowd to which nobody of it can be added."""
+def check_crowd_of(book, crowd):
+    """Raises an error unless this is a crowd of the people of a book."""
     if not is_crowd(book.people, crowd):
         raise NoCrowd()
+
+
+def bases(book, crowd):
+    """The ascending list of the clear crowds within a crowd to which nobody of it can be added."""
+    check_crowd_of(book, crowd)
     lots = lots_bits(book)
     clear = [0]
     for person in crowd:

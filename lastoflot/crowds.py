@@ -1,6 +1,7 @@
 """Numbers, crowds and lists are judged here, and crowds are kept as the bits of one integer."""
 
 from itertools import combinations
+from math import gcd
 
 
 def is_number(thing):
@@ -28,6 +29,11 @@ def is_tuple_of(thing, many):
     return isinstance(thing, tuple) and len(thing) == many
 
 
+def is_word(thing, word):
+    """Whether a thing is this word."""
+    return isinstance(thing, str) and thing == word
+
+
 def is_crowd(people, thing):
     """Whether a thing is an ascending tuple of persons."""
     if not isinstance(thing, tuple):
@@ -38,6 +44,21 @@ def is_crowd(people, thing):
             return False
         ahead = person
     return True
+
+
+def is_crowd_within(people, crowd, thing):
+    """Whether a thing is a crowd all of whose persons are persons of another crowd."""
+    return is_crowd(people, thing) and is_part(thing, crowd)
+
+
+def is_part(one, other):
+    """Whether all persons of one crowd are persons of another one."""
+    return (bits_of(one) | bits_of(other)) == bits_of(other)
+
+
+def is_one_of(crowd, thing):
+    """Whether a thing is a person of a crowd."""
+    return is_number(thing) and thing in crowd
 
 
 def is_lot(people, thing):
@@ -101,3 +122,9 @@ def holds_any(bits, parts):
         if (part & bits) == part:
             return True
     return False
+
+
+def lowest(top, bottom):
+    """The fraction of two numbers in lowest terms."""
+    shared = gcd(top, bottom)
+    return (top // shared, bottom // shared)

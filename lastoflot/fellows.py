@@ -1,8 +1,8 @@
 """Fellows: the lists that are alike to the one of an office."""
 
-from lastoflot.crowds import bits_of, count_of, crowd_of, has, is_below, is_list, is_person
-from lastoflot.errors import NoList, NoNumber, NoPerson
-from lastoflot.offices import lasts
+from lastoflot.crowds import bits_of, count_of, crowd_of, has, is_below, is_list
+from lastoflot.errors import NoList, NoNumber
+from lastoflot.offices import check_person, lasts
 
 
 def ahead_of_lasts(book, table):
@@ -101,8 +101,7 @@ def bound_pairs(office):
 def may_stand(office, person):
     """The ascending list of the places at which a person stands in some fellow."""
     people = office.book.people
-    if not is_person(people, person):
-        raise NoPerson()
+    check_person(people, person)
     ahead = all_ahead(office)
     behind = [other for other in range(people) if has(ahead[other], person)]
     # Whoever is bound neither way can stand on either side, so there is no gap between the two ends.

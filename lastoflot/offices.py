@@ -1,8 +1,8 @@
 """Offices: a book and a list, by which people are let in."""
 
-from lastoflot.books import Book, lots_bits
-from lastoflot.crowds import all_crowds, bits_of, crowd_of, has, holds_any, is_crowd, is_list, is_lot, is_number
-from lastoflot.errors import BadOffice, NoCrowd, NoPerson, TooMany
+from lastoflot.books import Book, check_crowd_of, lots_bits
+from lastoflot.crowds import all_crowds, bits_of, crowd_of, has, holds_any, is_list, is_lot, is_one_of, is_person
+from lastoflot.errors import BadOffice, NoPerson, TooMany
 
 MOST_IN_TABLES = 10
 
@@ -42,8 +42,19 @@ def others_by_last(office):
 
 def check_crowd(office, crowd):
     """Raises an error unless this is a crowd of the people of the office."""
-    if not is_crowd(office.book.people, crowd):
-        raise NoCrowd()
+    check_crowd_of(office.book, crowd)
+
+
+def check_person(people, person):
+    """Raises an error unless this is one of so many people."""
+    if not is_person(people, person):
+        raise NoPerson()
+
+
+def check_one_of(crowd, person):
+    """Raises an error unless this is a person of a crowd."""
+    if not is_one_of(crowd, person):
+        raise NoPerson()
 
 
 def check_few(office):
@@ -113,8 +124,7 @@ def is_whole_but(lot, last, inside):
 def is_reason(office, crowd, person, thing):
     """Whether a thing is a lot of which a person is the last and all others are let in."""
     check_crowd(office, crowd)
-    if not is_number(person) or person not in crowd:
-        raise NoPerson()
+    check_one_of(crowd, person)
     if not is_lot(office.book.people, thing):
         return False
     inside = bits_in(office, bits_of(crowd))

@@ -1,7 +1,7 @@
 """Rules: ways to say which crowds may be in together."""
 
 from lastoflot.books import least_book
-from lastoflot.crowds import crowds_within, is_crowd, is_lot, is_number, is_people, is_person, is_tuple_of
+from lastoflot.crowds import crowds_within, is_crowd, is_lot, is_number, is_people, is_person, is_tuple_of, is_word
 from lastoflot.errors import NoCrowd, NoPeople, NoRules
 
 MOST_RULES = 40
@@ -46,11 +46,6 @@ def is_rule(people, thing):
     if is_word(word, "without"):
         return is_person(people, first) and is_crowd(people, second) and second != () and first not in second
     return False
-
-
-def is_word(thing, word):
-    """Whether a thing is this word."""
-    return isinstance(thing, str) and thing == word
 
 
 def is_kept(rule, crowd):

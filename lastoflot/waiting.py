@@ -1,7 +1,7 @@
 """Waiting places: whom a desk must hold that sees comers in whatever order."""
 
-from lastoflot.crowds import all_crowds, bits_of, count_of, crowd_of, has, is_crowd, is_number, is_person, is_row
-from lastoflot.crowds import is_tuple_of
+from lastoflot.crowds import all_crowds, bits_of, count_of, crowd_of, has, is_crowd, is_number, is_one_of, is_person
+from lastoflot.crowds import is_row, is_tuple_of
 from lastoflot.errors import NoNumber, NoPerson, NoRow
 from lastoflot.offices import bits_in, check_crowd, check_few, ins_table
 
@@ -34,7 +34,7 @@ def bringers(office, crowd, person):
     check_crowd(office, crowd)
     bits = bits_of(crowd)
     ins = ins_table(office)
-    if not is_number(person) or person not in crowd or has(ins[bits], person):
+    if not is_one_of(crowd, person) or has(ins[bits], person):
         raise NoPerson()
     return first_bringers(all_crowds(office.book.people), ins, bits, person)
 

@@ -219,6 +219,20 @@ def is_plain_list(people, thing):
     return sorted(thing) == list(range(people))
 
 
+def is_plain_crowds(people, thing):
+    """Whether a thing is a list or tuple of at most 60 crowds."""
+    return isinstance(thing, (list, tuple)) and len(thing) <= 60 and all(is_plain_crowd(people, one) for one in thing)
+
+
+def random_crowd(rand, people):
+    return tuple(sorted(rand.sample(range(people), rand.randint(0, people))))
+
+
+def clear_sizes(lots, crowd):
+    """The number of the people of each clear crowd within a crowd."""
+    return [size for size in range(len(crowd) + 1) for part in combinations(crowd, size) if is_clear(lots, part)]
+
+
 class Checks:
     """What test cases do besides what unittest gives them."""
 

@@ -1,13 +1,15 @@
-"""The document's examples e01 to e08."""
+"""The document's examples e01 to e10."""
 
 import unittest
 
 from lastoflot.alike import alike, parting, steps
 from lastoflot.always import always_steady, spare
 from lastoflot.books import Book
+from lastoflot.comers import comer
 from lastoflot.fellows import bound_pairs, many_fellows
 from lastoflot.offices import Office, from_below, lasts, let_in, reasons
 from lastoflot.rules import lots_by
+from lastoflot.sightings import fitting, many_fitting
 from lastoflot.steady import clash, is_recall, steady, thirds
 from lastoflot.tables import list_for, many_tables
 from lastoflot.waiting import hopeful, kept, places
@@ -48,3 +50,10 @@ class ExampleTest(unittest.TestCase):
     def test_e08(self):
         wanted = ((2,), 1, [((2,), ()), ((1,), (2,)), ((0, 2), ())])
         self.assertEqual((hopeful(o, (1, 2)), places(o), kept(o, (2, 1, 0))), wanted)
+
+    def test_e09(self):
+        sightings = [((0, 1, 2), (0, 2))]
+        self.assertEqual((fitting(b, sightings), many_fitting(b, sightings)), ((0, 1, 2), 4))
+
+    def test_e10(self):
+        self.assertEqual(comer(o, (1, 2), 0), ((2,), (1,)))

@@ -21,6 +21,15 @@ INTERFACE = {
     "always": "always_steady(book) is_unsteady_list(book, thing) spare(book) unsteady_list(book)",
     "waiting": "hopeful(office, crowd) fullest(office) bringers(office, crowd, person) places(office) "
                "crowded(office, many) is_crowded(office, many, thing) kept(office, row)",
+    "keepers": "wrong_row(office, many, keeper)",
+    "sightings": "is_fitting(book, sightings, thing) is_bar_to_lists(book, sightings, thing) "
+                 "is_dropped(book, sightings, thing) fitting(book, sightings) bar_to_lists(book, sightings) "
+                 "many_fitting(book, sightings) fewest_dropped(book, sightings) dropped(book, sightings)",
+    "verdicts": "surely_ahead(book, sightings) verdicts(book, sightings, crowd) parted_by(book, sightings)",
+    "choosers": "is_chooser(people, thing) is_bar_to_offices(people, chooser, thing) office_of(people, chooser) "
+                "bar_to_offices(people, chooser)",
+    "comers": "comer(office, crowd, person) leaver(office, crowd, person) touching(office) most_touched(office) "
+              "one_for_one(office) is_two_for_one(office, thing) two_for_one(office) lots_for_two(office)",
 }
 CLASSES = {
     "books": "Book(people, lots)",
