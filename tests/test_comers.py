@@ -209,6 +209,16 @@ class TwoForOneTest(Checks, unittest.TestCase):
         wide = Office(Book(5, ((0, 1, 3), (0, 1, 4), (0, 2, 3))), (0, 1, 2, 3, 4))
         self.assertEqual((lots_for_two(wide), one_for_one(wide)), ((0, 1, 0), False))
 
+    def test_lots_with_other_lasts(self):
+        # A lot within the persons of both but for one is no matter if its last is another one.
+        for lots, order, wanted in (
+                (((0, 1, 2, 3), (0, 2, 4), (1, 4), (2, 3, 4)), (4, 1, 2, 3, 0), (0, 3, 2)),
+                (((0, 1, 2, 4), (0, 3, 4), (1, 3, 4), (2, 3)), (4, 3, 1, 2, 0), (0, 2, 4)),
+                (((0, 3, 4), (1, 2, 3, 5), (1, 3, 4), (4, 5)), (2, 4, 3, 0, 5, 1), (0, 1, 3))):
+            office = Office(Book(len(order), lots), order)
+            self.told(office)
+            self.assertEqual(lots_for_two(office), wanted)
+
     def test_twelve(self):
         twelve = tuple(range(12))
         pairs = Office(Book(11, tuple(combinations(range(11), 2))), tuple(range(11)))

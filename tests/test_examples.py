@@ -1,17 +1,21 @@
-"""The document's examples e01 to e10."""
+"""The document's examples e01 to e14."""
 
 import unittest
 
 from lastoflot.alike import alike, parting, steps
 from lastoflot.always import always_steady, spare
 from lastoflot.books import Book
+from lastoflot.chances import chances, mean_number
 from lastoflot.comers import comer
 from lastoflot.fellows import bound_pairs, many_fellows
+from lastoflot.greatest import generous, least_share, most
+from lastoflot.looks import looked_through
 from lastoflot.offices import Office, from_below, lasts, let_in, reasons
 from lastoflot.rules import lots_by
 from lastoflot.sightings import fitting, many_fitting
 from lastoflot.steady import clash, is_recall, steady, thirds
 from lastoflot.tables import list_for, many_tables
+from lastoflot.turns import flower, flower_ahead, next_day
 from lastoflot.waiting import hopeful, kept, places
 
 b = Book(3, ((0, 1), (1, 2)))
@@ -57,3 +61,18 @@ class ExampleTest(unittest.TestCase):
 
     def test_e10(self):
         self.assertEqual(comer(o, (1, 2), 0), ((2,), (1,)))
+
+    def test_e11(self):
+        found = (most(b, (0, 1, 2)), generous(o), least_share(Office(b, (1, 0, 2))))
+        self.assertEqual(found, (2, True, ((1, 2), (0, 1, 2))))
+
+    def test_e12(self):
+        found = (flower(b, 1), flower_ahead(o, 1), next_day(o, (0, 1)).order)
+        self.assertEqual(found, (((0, 1), (1, 2)), ((0, 1),), (1, 2, 0)))
+
+    def test_e13(self):
+        self.assertEqual(looked_through(o, (0, 1, 2), (1,), (2, 1, 0, 1, 2)), (0, 2))
+
+    def test_e14(self):
+        wanted = ({0: (2, 3), 1: (1, 3), 2: (2, 3)}, (5, 3))
+        self.assertEqual((chances(b, (0, 1, 2)), mean_number(b, (0, 1, 2))), wanted)

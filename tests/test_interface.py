@@ -30,6 +30,16 @@ INTERFACE = {
                 "bar_to_offices(people, chooser)",
     "comers": "comer(office, crowd, person) leaver(office, crowd, person) touching(office) most_touched(office) "
               "one_for_one(office) is_two_for_one(office, thing) two_for_one(office) lots_for_two(office)",
+    "greatest": "most(book, crowd) greatest_clear(book, crowd) generous(office) is_stingy(office, thing) "
+                "is_fewer(office, thing) always_generous(book) is_mean_list(book, thing) stingy(office) fewer(office) "
+                "mean_list(book) least_share(office)",
+    "turns": "next_day(office, crowd) after(office, crowds) days(office, crowds) flower(book, person) "
+             "flower_ahead(office, person) longest_out(office, person) is_flower(book, person, thing) "
+             "is_out_through(office, person, thing)",
+    "fronts": "next_front(office, crowd) front_out(office, person) is_front_out(office, person, thing)",
+    "looks": "looked(office, crowd, state, person) looked_through(office, crowd, state, row) most_looks(office, crowd) "
+             "is_quiet(office, crowd, thing) is_looks(office, crowd, thing)",
+    "chances": "chances(book, crowd) outcomes_by_lot(book, crowd) mean_number(book, crowd)",
 }
 CLASSES = {
     "books": "Book(people, lots)",

@@ -159,7 +159,9 @@ class KeeperTest(Checks, unittest.TestCase):
         table = {**right_table(ROW), (2, 1): ((1,), ())}
         self.assertEqual(wrong_row(ROW, 3, reading(table)), (2, 1, 0))
         # Nobody waits who never came, or came to nothing.
-        self.spoilt(FREE, 3, (0,), ((0,), (1,)))
+        for one in range(3):
+            for other in {0, 1, 2} - {one}:
+                self.spoilt(FREE, 3, (one,), ((one,), (other,)))
         self.spoilt(FREE, 3, (0, 2), ((0, 2), (1,)))
         self.spoilt(ROW, 3, (0, 1, 2), ((0, 2), (1,)))
         self.spoilt(ROW, 3, (1,), ((1,), (2,)))
