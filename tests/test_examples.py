@@ -1,14 +1,17 @@
-"""The document's examples e01 to e14."""
+"""The document's examples e01 to e16."""
 
 import unittest
 
 from lastoflot.alike import alike, parting, steps
 from lastoflot.always import always_steady, spare
+from lastoflot.asking import asked_least
 from lastoflot.books import Book
 from lastoflot.chances import chances, mean_number
+from lastoflot.closed import is_called_back
 from lastoflot.comers import comer
 from lastoflot.fellows import bound_pairs, many_fellows
 from lastoflot.greatest import generous, least_share, most
+from lastoflot.kinds import Kinds, counts_after, entered, passing_row
 from lastoflot.looks import looked_through
 from lastoflot.offices import Office, from_below, lasts, let_in, reasons
 from lastoflot.rules import lots_by
@@ -22,6 +25,7 @@ b = Book(3, ((0, 1), (1, 2)))
 t = Book(3, ((0, 1), (0, 2), (1, 2)))
 o = Office(b, (0, 1, 2))
 p = Office(Book(3, ((0, 1), (0, 2))), (0, 1, 2))
+k = Kinds(2, ((1, 1),))
 
 
 class ExampleTest(unittest.TestCase):
@@ -76,3 +80,11 @@ class ExampleTest(unittest.TestCase):
     def test_e14(self):
         wanted = ({0: (2, 3), 1: (1, 3), 2: (2, 3)}, (5, 3))
         self.assertEqual((chances(b, (0, 1, 2)), mean_number(b, (0, 1, 2))), wanted)
+
+    def test_e15(self):
+        self.assertEqual(asked_least(b), 2)
+
+    def test_e16(self):
+        found = (entered(k, (0, 0, 1, 0)), counts_after(k, (0, 1), 10 ** 20), passing_row(k, 0, 1))
+        self.assertEqual(found, ([True, True, False, True], (10 ** 20, 0), ()))
+        self.assertIs(is_called_back(k, ((0, 1), 0, 1)), True)

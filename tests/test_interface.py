@@ -40,10 +40,18 @@ INTERFACE = {
     "looks": "looked(office, crowd, state, person) looked_through(office, crowd, state, row) most_looks(office, crowd) "
              "is_quiet(office, crowd, thing) is_looks(office, crowd, thing)",
     "chances": "chances(book, crowd) outcomes_by_lot(book, crowd) mean_number(book, crowd)",
+    "asking": "asked_least(book) asking_tree(book) is_asking_tree(book, most, thing)",
+    "kinds": "entered(kinds, row) entered_counts(kinds, row) counts_after(kinds, row, times) unlike_row(one, other) "
+             "passing_row(kinds, a, b) may_pass(kinds, a, b)",
+    "closed": "steady_kinds(kinds) is_called_back(kinds, thing) called_back(kinds) steady_table(kinds)",
+    "halls": "seated(halls, crowd) housed(halls, crowd) halls_parting(one, other) as_one(halls) bar_to_one(halls)",
+    "editions": "with_lot(book, lot) without_lot(book, number) raised(office, person, place) named(office, order) "
+                "harmed(one, other)",
 }
 CLASSES = {
     "books": "Book(people, lots)",
     "offices": "Office(book, order)",
+    "kinds": "Kinds(many, lots)",
     "errors": "BadBook(part, at) BadOffice(part) BadKinds(part, at) BadText(line) TooMany(most) NoName(name)",
 }
 
@@ -75,6 +83,6 @@ class InterfaceTest(unittest.TestCase):
         self.stand_there(CLASSES, inspect.isclass)
 
     def test_equality_is_their_own(self):
-        for file, name in (("books", "Book"), ("offices", "Office")):
+        for file, name in (("books", "Book"), ("offices", "Office"), ("kinds", "Kinds")):
             kind = getattr(importlib.import_module("lastoflot." + file), name)
             self.assertIn("__eq__", vars(kind))
