@@ -33,10 +33,10 @@ def first_wrong(many, lots):
         lot = lots[at]
         if not is_counts(many, lot):
             return at
-        # The one ahead is the greatest so far, as all those ahead are ascending.
         if at > 0 and lot <= lots[at - 1]:
             return at
-        if any([is_at_most(other, lot) or is_at_most(lot, other) for other in lots[:at]]):
+        # It is greater than all those ahead by now, so it cannot be at most one of them.
+        if any([is_at_most(other, lot) for other in lots[:at]]):
             return at
     return None
 

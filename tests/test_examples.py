@@ -1,4 +1,4 @@
-"""The document's examples e01 to e16."""
+"""The document's examples e01 to e17."""
 
 import unittest
 
@@ -18,6 +18,7 @@ from lastoflot.rules import lots_by
 from lastoflot.sightings import fitting, many_fitting
 from lastoflot.steady import clash, is_recall, steady, thirds
 from lastoflot.tables import list_for, many_tables
+from lastoflot.texts import office_text
 from lastoflot.turns import flower, flower_ahead, next_day
 from lastoflot.waiting import hopeful, kept, places
 
@@ -88,3 +89,6 @@ class ExampleTest(unittest.TestCase):
         found = (entered(k, (0, 0, 1, 0)), counts_after(k, (0, 1), 10 ** 20), passing_row(k, 0, 1))
         self.assertEqual(found, ([True, True, False, True], (10 ** 20, 0), ()))
         self.assertIs(is_called_back(k, ((0, 1), 0, 1)), True)
+
+    def test_e17(self):
+        self.assertEqual(office_text(o), "people 3\n0 1\n1 2\nlist 0 1 2\n")

@@ -77,7 +77,7 @@ class FormTest(unittest.TestCase):
                 self.assertIsInstance(node, allowed, (path.name, node.lineno))
                 if isinstance(node, ast.Assign):
                     self.assertEqual([isinstance(target, ast.Name) for target in node.targets], [True])
-                    ast.literal_eval(node.value)
+                    self.plain_value(node.value, bound)
                     bound.append(node.targets[0].id)
                 elif isinstance(node, ast.ImportFrom):
                     bound += [item.name for item in node.names]
@@ -85,6 +85,34 @@ class FormTest(unittest.TestCase):
                     bound.append(node.name)
             self.assertEqual(len(bound), len(set(bound)), path.name)
             self.assertEqual([name for name in bound if hasattr(builtins, name)], [], path.name)
+
+    def plain_value(self, value, above):
+        """Checks that this is a literal, or a dict from words to functions of the file that are defined above."""
+        if isinstance(value, ast.Dict) and value.values and isinstance(value.values[0], ast.Name):
+            self.assertLessEqual({part.id for part in value.values}, set(above))
+            self.assertEqual({part.value.__class__ for part in value.keys}, {str})
+        else:
+            ast.literal_eval(value)
+
+    def test_attributes(self):
+        methods, attributes = set(), set()
+        for name, node in nodes():
+            if isinstance(node, ast.ClassDef):
+                methods |= {part.name for part in node.body if isinstance(part, ast.FunctionDef)}
+            if isinstance(node, ast.Attribute) and isinstance(node.ctx, ast.Store):
+                self.assertIsInstance(node.value, ast.Name, name)
+                attributes.add(node.attr)
+        self.assertEqual(methods & attributes, set())
+        self.assertEqual(attributes & set(dir(list) + dir(dict) + dir(str) + dir(int) + dir(set)), set())
+
+    def test_finally(self):
+        simple = (ast.Assign, ast.Tuple, ast.Attribute, ast.Name, ast.Load, ast.Store)
+        for name, node in nodes():
+            if isinstance(node, ast.Try):
+                self.assertEqual(node.handlers, [], name)
+                for row in node.finalbody:
+                    for part in ast.walk(row):
+                        self.assertIsInstance(part, simple, (name, row.lineno))
 
     def test_imports(self):
         graph = {}

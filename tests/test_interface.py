@@ -47,13 +47,26 @@ INTERFACE = {
     "halls": "seated(halls, crowd) housed(halls, crowd) halls_parting(one, other) as_one(halls) bar_to_one(halls)",
     "editions": "with_lot(book, lot) without_lot(book, number) raised(office, person, place) named(office, order) "
                 "harmed(one, other)",
+    "texts": "book_text(book) office_text(office)",
+    "reading": "read_book(text) read_office(text)",
+    "ruletexts": "rules_text(people, rules) read_rules(people, text)",
 }
 CLASSES = {
     "books": "Book(people, lots)",
     "offices": "Office(book, order)",
     "kinds": "Kinds(many, lots)",
+    "doors": "Door(office)",
     "errors": "BadBook(part, at) BadOffice(part) BadKinds(part, at) BadText(line) TooMany(most) NoName(name)",
 }
+# What else stands in the body of each class, with its arguments behind the object itself.
+METHODS = {
+    "doors Door": "come(person) leave(person) move(person, place) bar(lot) there() inside() outside() office() news() "
+                  "back() deeds() copy() trying(action)",
+    "desk Desk": "tell(line) undoable()",
+}
+PLAIN_ERRORS = (
+    "NoPeople NoHeaps NoCrowd NoRules NoPerson OtherPeople OtherBook OtherKinds NoPlace NoNumber NoList NoTable NoPair NoRow "
+    "NoSightings NoChooser NotSteady NoCrowds NoState NoLooks NoKinds NoKind NoHalls NoLot IsThere NotThere NothingDone NoLine")
 
 
 def parts(text):
@@ -62,7 +75,7 @@ def parts(text):
     for piece in text.split(")"):
         if piece:
             name, arguments = piece.strip().split("(")
-            found.append((name, arguments.split(", ")))
+            found.append((name, arguments.split(", ") if arguments else []))
     return found
 
 
@@ -86,3 +99,18 @@ class InterfaceTest(unittest.TestCase):
         for file, name in (("books", "Book"), ("offices", "Office"), ("kinds", "Kinds")):
             kind = getattr(importlib.import_module("lastoflot." + file), name)
             self.assertIn("__eq__", vars(kind))
+
+    def test_methods(self):
+        for place, text in METHODS.items():
+            file, kind = place.split()
+            body = vars(getattr(importlib.import_module("lastoflot." + file), kind))
+            for name, arguments in parts(text):
+                self.assertEqual(list(inspect.signature(body[name]).parameters), ["self", *arguments], name)
+
+    def test_made_without_arguments(self):
+        module = importlib.import_module("lastoflot.errors")
+        for name in PLAIN_ERRORS.split():
+            error = getattr(module, name)
+            self.assertEqual(error.__module__, "lastoflot.errors")
+            self.assertEqual((error.__bases__, vars(error())), ((module.LotError,), {}))
+        self.assertEqual(vars(importlib.import_module("lastoflot.desk").Desk)["__init__"].__code__.co_argcount, 1)
