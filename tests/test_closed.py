@@ -6,7 +6,7 @@ from itertools import product
 
 from lastoflot.closed import called_back, is_called_back, steady_kinds, steady_table
 from lastoflot.kinds import Kinds
-from tests import kindly
+from tests import plain
 from tests.plain import Checks, strange
 
 APART = Kinds(2, ((1, 1),))
@@ -18,14 +18,14 @@ SOME = Kinds(3, ((0, 1, 1), (1, 0, 1), (1, 1, 0)))
 
 def calls_back(kinds, row, place, kind):
     """Whether one more comer of a kind, put in ahead of a place, lets in somebody behind who was out."""
-    before = kindly.entered(kinds, row)[0]
-    after = kindly.entered(kinds, row[:place] + (kind,) + row[place:])[0]
+    before = plain.entered(kinds, row)[0]
+    after = plain.entered(kinds, row[:place] + (kind,) + row[place:])[0]
     return any(not old and new for old, new in zip(before[place:], after[place + 1:]))
 
 
 def plain_calls(kinds, longest):
     """All triples with rows up to so many comers by which somebody is called back."""
-    return [(row, place, kind) for row in kindly.rows(kinds.many, longest) for place in range(len(row))
+    return [(row, place, kind) for row in plain.kind_rows(kinds.many, longest) for place in range(len(row))
             for kind in range(kinds.many) if calls_back(kinds, row, place, kind)]
 
 
@@ -36,11 +36,11 @@ def told_up_to(kinds, counts):
 def pairs_of_rows(kinds, longest):
     """All pairs of counts of a row up to so many comers and of it with one more comer, as they are told."""
     found = set()
-    for row in kindly.rows(kinds.many, longest):
-        one = told_up_to(kinds, kindly.entered(kinds, row)[1])
+    for row in plain.kind_rows(kinds.many, longest):
+        one = told_up_to(kinds, plain.entered(kinds, row)[1])
         for place in range(len(row) + 1):
             for kind in range(kinds.many):
-                other = kindly.entered(kinds, row[:place] + (kind,) + row[place:])[1]
+                other = plain.entered(kinds, row[:place] + (kind,) + row[place:])[1]
                 found.add((one, told_up_to(kinds, other)))
     return tuple(sorted(found))
 
@@ -49,7 +49,7 @@ def pairs_on(kinds):
     """The like by going on from pair to pair, each count kept up to two more than any lot has."""
     def step(counts, kind):
         more = counts[:kind] + (counts[kind] + 1,) + counts[kind + 1:]
-        if any(kindly.at_most(lot, more) for lot in kinds.lots):
+        if any(plain.at_most(lot, more) for lot in kinds.lots):
             return counts
         return tuple(min(count, 6) for count in more)
 
@@ -83,24 +83,24 @@ class SteadyTest(Checks, unittest.TestCase):
 
     def test_going_through(self):
         steady = 0
-        for kinds in kindly.small_kinds():
+        for kinds in plain.small_kinds():
             calls = plain_calls(kinds, 6)
             found = self.told(kinds, calls)
             self.assertEqual(found is None, calls == [], kinds.lots)
             steady += found is None
         self.assertGreater(steady, 4)
-        self.assertLess(steady, len(kindly.small_kinds()))
+        self.assertLess(steady, len(plain.small_kinds()))
 
     def test_three_kinds(self):
         rand = random.Random(201)
         for most in (0, 1, 2, 3, 4, 5, 6, 9):
             for _ in range(4):
-                kinds = kindly.random_kinds(rand, 3, most, 2)
+                kinds = plain.random_kinds(rand, 3, most, 2)
                 self.told(kinds, plain_calls(kinds, 5))
 
     def test_great_ones(self):
         rand = random.Random(202)
-        for kinds in kindly.great_kinds() + kindly.fair_kinds():
+        for kinds in plain.great_kinds() + plain.fair_kinds():
             calls = []
             for _ in range(60):
                 row = tuple(rand.randrange(kinds.many) for _ in range(rand.randint(1, 25)))
@@ -120,8 +120,8 @@ class SteadyTest(Checks, unittest.TestCase):
             self.assertIs(steady_kinds(some), False, some.lots)
 
     def test_is_called_back(self):
-        for kinds in kindly.small_kinds()[::2] + [SOME, Kinds(3, ((1, 1, 1),))]:
-            for row in kindly.rows(kinds.many, 6 - kinds.many):
+        for kinds in plain.small_kinds()[::2] + [SOME, Kinds(3, ((1, 1, 1),))]:
+            for row in plain.kind_rows(kinds.many, 6 - kinds.many):
                 for place in range(len(row)):
                     for kind in range(kinds.many):
                         wanted = calls_back(kinds, row, place, kind)
@@ -153,21 +153,21 @@ class SteadyTest(Checks, unittest.TestCase):
         for thing in strange():
             for triple in ((thing, 0, 1), ((0, 1), thing, 1), ((0, 1), 0, thing), ((0, thing), 0, 1)):
                 row, place, kind = triple
-                wanted = kindly.is_row(APART, row) and kindly.is_kind(APART, kind) and (
-                    kindly.is_kind(APART, place) and place < len(row)) and calls_back(APART, row, place, kind)
+                wanted = plain.is_plain_kind_row(APART, row) and plain.is_plain_kind(APART, kind) and (
+                    plain.is_plain_kind(APART, place) and place < len(row)) and calls_back(APART, row, place, kind)
                 self.same_flag(wanted, is_called_back(APART, triple))
 
 
 class TableTest(Checks, unittest.TestCase):
     def test_going_through_rows(self):
-        some = [kinds for kinds in kindly.small_kinds() if steady_kinds(kinds)]
+        some = [kinds for kinds in plain.small_kinds() if steady_kinds(kinds)]
         for kinds in some:
             self.assertEqual(steady_table(kinds), pairs_of_rows(kinds, 9 - kinds.many), kinds.lots)
         self.assertGreater(len(some), 4)
 
     def test_going_on(self):
         rand = random.Random(203)
-        some = kindly.fair_kinds() + [kindly.random_kinds(rand, 3, most, 2) for most in (4, 9, 20, 30) for _ in range(8)]
+        some = plain.fair_kinds() + [plain.random_kinds(rand, 3, most, 2) for most in (4, 9, 20, 30) for _ in range(8)]
         some += [Kinds(3, ((0, 0, 4), (0, 3, 0), (2, 0, 0))), Kinds(2, ((0, 4), (1, 3), (2, 2), (3, 1), (4, 0))), EACH_ONE,
                  Kinds(3, ((0, 0, 2),)), Kinds(3, ((0, 0, 3), (0, 1, 2), (0, 2, 1), (0, 3, 0))), ONE_IN]
         told = 0

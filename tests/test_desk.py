@@ -239,6 +239,8 @@ class AskTest(DeskTest):
         # The least of the lots is told, and people ascending, however they stand in the list.
         desk = led("office a people 4|0 1|0 2|1 3|2 3|list 1 2 3 0|")
         self.assertEqual(desk.tell("why a 0,1,2,3"), "0:0,1 3:1,3")
+        desk = led("office a people 4|0 3|1 2|list 0 2 3 1|")
+        self.assertEqual(desk.tell("why a 0,1,2,3"), "1:1,2 3:0,3")
 
     def test_great_offices(self):
         for office in plain.great_offices(277):

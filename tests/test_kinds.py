@@ -8,7 +8,7 @@ from lastoflot.books import Book
 from lastoflot.errors import BadKinds, NoKind, NoKinds, NoNumber, OtherKinds
 from lastoflot.kinds import Kinds, counts_after, entered, entered_counts, may_pass, passing_row, unlike_row
 from lastoflot.offices import Office
-from tests import kindly, plain
+from tests import plain
 from tests.plain import Checks, strange
 
 APART = Kinds(2, ((1, 1),))
@@ -77,7 +77,7 @@ class KindsTest(Checks, unittest.TestCase):
         for lots in list(product(every, repeat=2)) + random.Random(193).sample(list(product(every, repeat=3)), 800):
             wanted = None
             for at, lot in enumerate(lots):
-                near = any(kindly.at_most(lot, other) or kindly.at_most(other, lot) for other in lots[:at])
+                near = any(plain.at_most(lot, other) or plain.at_most(other, lot) for other in lots[:at])
                 if sum(lot) < 2 or near or (at and lot <= lots[at - 1]):
                     wanted = at
                     break
@@ -100,18 +100,18 @@ class KindsTest(Checks, unittest.TestCase):
 
 class EnteredTest(Checks, unittest.TestCase):
     def test_going_through(self):
-        for kinds in kindly.fair_kinds():
-            for row in kindly.rows(kinds.many, 7 - kinds.many):
-                flags, counts = kindly.entered(kinds, row)
+        for kinds in plain.fair_kinds():
+            for row in plain.kind_rows(kinds.many, 7 - kinds.many):
+                flags, counts = plain.entered(kinds, row)
                 self.assertEqual(entered(kinds, row), flags, (kinds.lots, row))
                 self.assertEqual(entered_counts(kinds, row), counts, (kinds.lots, row))
 
     def test_long_rows(self):
         rand = random.Random(194)
-        for kinds in kindly.fair_kinds() + kindly.great_kinds():
+        for kinds in plain.fair_kinds() + plain.great_kinds():
             for size in (20, 199, 200):
                 row = tuple(rand.randrange(kinds.many) for _ in range(size))
-                flags, counts = kindly.entered(kinds, row)
+                flags, counts = plain.entered(kinds, row)
                 self.assertEqual(entered(kinds, row), flags)
                 self.assertEqual(entered_counts(kinds, row), counts)
                 self.assertEqual({flag.__class__ for flag in entered(kinds, row)}, {bool})
@@ -129,7 +129,7 @@ class EnteredTest(Checks, unittest.TestCase):
 
     def test_no_kinds(self):
         for many in (1, 2, 3):
-            for wrong in kindly.bad_rows(many):
+            for wrong in plain.bad_kind_rows(many):
                 self.raises(NoKinds, entered, Kinds(many, ()), wrong)
                 self.raises(NoKinds, entered_counts, Kinds(many, ()), wrong)
         for call in (entered, entered_counts):
@@ -142,20 +142,20 @@ class EnteredTest(Checks, unittest.TestCase):
 class CountsAfterTest(Checks, unittest.TestCase):
     def test_going_on(self):
         rand = random.Random(195)
-        for kinds in kindly.fair_kinds() + kindly.great_kinds():
+        for kinds in plain.fair_kinds() + plain.great_kinds():
             some = [()] + [tuple(rand.randrange(kinds.many) for _ in range(rand.randint(1, 7))) for _ in range(6)]
             for row in some:
                 for times in (0, 1, 2, 3, 4, 5, 8, 13, 14, 30):
-                    wanted = kindly.entered(kinds, row * times)[1]
+                    wanted = plain.entered(kinds, row * times)[1]
                     self.assertEqual(counts_after(kinds, row, times), wanted, (kinds.lots, row, times))
 
     def test_very_often(self):
         # What each time adds is the same from some time on: so 40 and 41 times tell all greater numbers.
         rand = random.Random(196)
-        for kinds in kindly.fair_kinds() + kindly.great_kinds():
+        for kinds in plain.fair_kinds() + plain.great_kinds():
             for size in (1, 2, 5, 9):
                 row = tuple(rand.randrange(kinds.many) for _ in range(size))
-                some, more = (kindly.entered(kinds, row * times)[1] for times in (40, 41))
+                some, more = (plain.entered(kinds, row * times)[1] for times in (40, 41))
                 for times in (10 ** 30, 10 ** 30 - 1, 10 ** 20, 12345678901234567890):
                     wanted = tuple(one + (other - one) * (times - 40) for one, other in zip(some, more))
                     self.assertEqual(counts_after(kinds, row, times), wanted, (kinds.lots, row, times))
@@ -184,15 +184,15 @@ class CountsAfterTest(Checks, unittest.TestCase):
             self.raises(NoKinds, counts_after, APART, (0, 2), times)
             self.raises(NoKinds, counts_after, APART, None, times)
         for many in (1, 2, 3):
-            for row in kindly.bad_rows(many):
+            for row in plain.bad_kind_rows(many):
                 for times in (0, 1, 10 ** 30):
                     self.raises(NoKinds, counts_after, Kinds(many, ()), row, times)
 
 
 class UnlikeTest(Checks, unittest.TestCase):
     def plain_unlike(self, one, other, longest):
-        for row in kindly.rows(one.many, longest):
-            if kindly.entered(one, row)[0] != kindly.entered(other, row)[0]:
+        for row in plain.kind_rows(one.many, longest):
+            if plain.entered(one, row)[0] != plain.entered(other, row)[0]:
                 return row
         return None
 
@@ -203,25 +203,25 @@ class UnlikeTest(Checks, unittest.TestCase):
 
     def test_going_through(self):
         rand = random.Random(197)
-        some = [kinds for kinds in kindly.small_kinds() if kinds.many == 2]
+        some = [kinds for kinds in plain.small_kinds() if kinds.many == 2]
         for one, other in product(some, repeat=2):
             self.told(one, other, self.plain_unlike(one, other, 5))
-        some = [kindly.random_kinds(rand, 2, most, 3) for most in (1, 2, 3, 5) for _ in range(5)]
+        some = [plain.random_kinds(rand, 2, most, 3) for most in (1, 2, 3, 5) for _ in range(5)]
         for one, other in product(some, repeat=2):
             self.told(one, other, self.plain_unlike(one, other, 7) if one.lots != other.lots else None)
-        ones = [kinds for kinds in kindly.small_kinds() if kinds.many == 1]
+        ones = [kinds for kinds in plain.small_kinds() if kinds.many == 1]
         for one, other in product(ones, repeat=2):
             self.told(one, other, self.plain_unlike(one, other, 5))
 
     def test_three_kinds(self):
         rand = random.Random(198)
-        some = [kindly.random_kinds(rand, 3, most, 2) for most in (1, 2, 3, 4, 6) for _ in range(3)]
+        some = [plain.random_kinds(rand, 3, most, 2) for most in (1, 2, 3, 4, 6) for _ in range(3)]
         for one, other in rand.sample(list(product(some, repeat=2)), 40) + [(kinds, kinds) for kinds in some]:
             self.told(one, other, self.plain_unlike(one, other, 7) if one.lots != other.lots else None)
 
     def test_near_ones(self):
         # With one lot left out, the least row ends where that lot would be in whole, and nothing else would.
-        for kinds in kindly.great_kinds():
+        for kinds in plain.great_kinds():
             for k in range(len(kinds.lots)):
                 less = Kinds(kinds.many, kinds.lots[:k] + kinds.lots[k + 1:])
                 wanted = tuple(kind for kind in range(kinds.many) for _ in range(kinds.lots[k][kind]))
@@ -246,9 +246,9 @@ class UnlikeTest(Checks, unittest.TestCase):
 
 class PassingTest(Checks, unittest.TestCase):
     def plain_passing(self, kinds, a, b, longest):
-        for row in kindly.rows(kinds.many, longest):
-            flags = kindly.entered(kinds, row + (a, b))[0]
-            if flags[-2:] != kindly.entered(kinds, row + (b, a))[0][:-3:-1]:
+        for row in plain.kind_rows(kinds.many, longest):
+            flags = plain.entered(kinds, row + (a, b))[0]
+            if flags[-2:] != plain.entered(kinds, row + (b, a))[0][:-3:-1]:
                 return row
         return None
 
@@ -258,33 +258,33 @@ class PassingTest(Checks, unittest.TestCase):
 
     def test_going_through(self):
         rand = random.Random(199)
-        some = [kinds for kinds in kindly.small_kinds() if kinds.many == 2]
-        for kinds in some + [kindly.random_kinds(rand, 2, most, 3) for most in (1, 2, 3, 4) for _ in range(4)]:
+        some = [kinds for kinds in plain.small_kinds() if kinds.many == 2]
+        for kinds in some + [plain.random_kinds(rand, 2, most, 3) for most in (1, 2, 3, 4) for _ in range(4)]:
             for a, b in ((0, 1), (1, 0)):
                 self.told(kinds, a, b, self.plain_passing(kinds, a, b, 6))
         for most in (0, 1, 2, 3, 4, 6):
             for _ in range(3):
-                kinds = kindly.random_kinds(rand, 3, most, 2)
+                kinds = plain.random_kinds(rand, 3, most, 2)
                 for a, b in permutations(range(3), 2):
                     self.told(kinds, a, b, self.plain_passing(kinds, a, b, 5))
 
     def test_whole_rows(self):
         # Where two kinds may pass, everybody in every row fares as before; else it shows behind the row.
         rand = random.Random(200)
-        for kinds in kindly.fair_kinds() + kindly.great_kinds():
+        for kinds in plain.fair_kinds() + plain.great_kinds():
             for a, b in permutations(range(kinds.many), 2):
                 if may_pass(kinds, a, b):
                     for _ in range(20):
                         ahead, behind = (tuple(rand.randrange(kinds.many) for _ in range(rand.randint(0, 14)))
                                          for _ in range(2))
-                        flags = kindly.entered(kinds, ahead + (a, b) + behind)[0]
+                        flags = plain.entered(kinds, ahead + (a, b) + behind)[0]
                         k = len(ahead)
                         flags[k], flags[k + 1] = flags[k + 1], flags[k]
-                        self.assertEqual(flags, kindly.entered(kinds, ahead + (b, a) + behind)[0])
+                        self.assertEqual(flags, plain.entered(kinds, ahead + (b, a) + behind)[0])
                 else:
                     row = passing_row(kinds, a, b)
-                    flags = kindly.entered(kinds, row + (a, b))[0][-2:]
-                    self.assertNotEqual(flags, kindly.entered(kinds, row + (b, a))[0][:-3:-1])
+                    flags = plain.entered(kinds, row + (a, b))[0][-2:]
+                    self.assertNotEqual(flags, plain.entered(kinds, row + (b, a))[0][:-3:-1])
 
     def test_named(self):
         self.assertEqual(passing_row(APART, 0, 1), ())
@@ -302,7 +302,7 @@ class PassingTest(Checks, unittest.TestCase):
         for call in (may_pass, passing_row):
             for many in (1, 2, 3):
                 kinds = Kinds(many, ())
-                for wrong in kindly.bad_kinds(many):
+                for wrong in plain.bad_kinds(many):
                     self.raises(NoKind, call, kinds, wrong, 0)
                     self.raises(NoKind, call, kinds, 0, wrong)
                     self.raises(NoKind, call, kinds, wrong, wrong)
